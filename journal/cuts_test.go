@@ -41,14 +41,18 @@ func torn(b *book, act, part int, text string) *book {
 	return b
 }
 
-// tatters is a book with a record or two on each page, and behind them one that was cut off.
+// tatters is a book with a full page, the next one to be erased, and on each of the others a record or two, and one that was cut off. It is opened fast.
 func tatters(t *testing.T) *book {
 	b := newBook(t)
-	for n := range 60 {
-		b.append(api.RecSafe+n%2, strings.Repeat("t", n))
-		if n%3 > 0 {
-			torn(b, 0, 3, "torn")
+	for range 4 {
+		b.append(api.RecEvent, strings.Repeat("o\xff", 500))
+	}
+	torn(b, 0, 3, "torn")
+	for n := range api.Pages - 1 {
+		for range 1 + n%2 {
+			b.append(api.RecSafe+n%2, strings.Repeat("t", n))
 		}
+		torn(b, 0, 3, "torn")
 	}
 	return b
 }
@@ -118,6 +122,7 @@ func cutOnce(t *testing.T, s begin, cut api.Cut) string {
 
 // P8.2: of each record of a long row the power goes in the middle; none that was found goes again, none that was gone comes again.
 func TestCutInEach(t *testing.T) {
+	t.Parallel()
 	for _, part := range []int{0, 1, 4, 30, 1006, 1007, 1008, 4096} {
 		d, b := dice(part), newBook(t)
 		for n := range 120 {

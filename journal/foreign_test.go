@@ -65,6 +65,7 @@ func burnt(t *testing.T, pages ...string) *cells.Memory {
 
 // R1, P8.1: memories full of one byte, and of thrown bytes, are read as far as it goes.
 func TestStrangeBytes(t *testing.T) {
+	t.Parallel()
 	for n := range 256 {
 		text := strings.Repeat(string([]byte{byte(n)}), api.PageSize)
 		goesOn(t, burnt(t, text))
@@ -167,6 +168,7 @@ func TestPageEnd(t *testing.T) {
 
 // R1, P8.1: a journal's pages with some bytes changed by somebody else.
 func TestSpoiltPages(t *testing.T) {
+	t.Parallel()
 	d := dice(21)
 	b := newBook(t)
 	b.fill(&d, 300)

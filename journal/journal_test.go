@@ -207,6 +207,7 @@ func TestApart(t *testing.T) {
 
 // P8.2, P8.3: the safety state is the last one of its kind, whatever events come behind it, on its own page and on others, and on all pages in turns.
 func TestSafeLasts(t *testing.T) {
+	t.Parallel()
 	for _, state := range []string{"", "\xff", "state", strings.Repeat("s", 1000), strings.Repeat("\xff", 1000)} {
 		for _, ahead := range []int{0, 1, 3, 4, 30} {
 			b := newBook(t)

@@ -9,6 +9,7 @@ import (
 
 // P8.1: long rows of thrown appendings and openings, through all pages many times over.
 func TestRows(t *testing.T) {
+	t.Parallel()
 	for seed := range 6 {
 		d, b := dice(seed), newBook(t)
 		for range 60 {
@@ -26,6 +27,7 @@ func TestRows(t *testing.T) {
 
 // P8.1: each row of few appendings of short and long texts, opened behind each.
 func TestEachRow(t *testing.T) {
+	t.Parallel()
 	texts := []string{"", "\xff", strings.Repeat("t", 500), strings.Repeat("u", 1000)}
 	const calls, kinds = 5, 4
 	rows := 1
@@ -44,6 +46,7 @@ func TestEachRow(t *testing.T) {
 
 // P8.1, P8.4: a record of each length at a page's end: it fits, just fits, or goes to another page.
 func TestPageFilled(t *testing.T) {
+	t.Parallel()
 	start := newBook(t)
 	for range 3 {
 		start.append(api.RecSafe, strings.Repeat("p", 1000))
@@ -59,6 +62,7 @@ func TestPageFilled(t *testing.T) {
 
 // P8.4: there is room however many records are appended; the last sixteen of them are found, however long their texts are.
 func TestRoom(t *testing.T) {
+	t.Parallel()
 	for _, size := range []int{0, 40, 1000} {
 		b := newBook(t)
 		text := strings.Repeat("r", size)
@@ -82,6 +86,7 @@ func TestRoom(t *testing.T) {
 
 // P8.4: there is room however often the journal is opened, and nothing is lost by opening it.
 func TestManyOpenings(t *testing.T) {
+	t.Parallel()
 	b := newBook(t)
 	for n := range 400 {
 		for range 10 {
@@ -98,6 +103,7 @@ func TestManyOpenings(t *testing.T) {
 
 // P8.2, P8.4: thrown rows in which the power goes again and again, in appendings and in openings.
 func TestThrownCuts(t *testing.T) {
+	t.Parallel()
 	downs := 0
 	for seed := range 30 {
 		d, b := dice(100+seed), newBook(t)
@@ -131,6 +137,7 @@ func (d *dice) cuts() []api.Cut {
 
 // P8.2, P8.4: the power goes in each appending, many times in a row, so that no record comes through; those ahead of them stay.
 func TestNoneComesThrough(t *testing.T) {
+	t.Parallel()
 	for _, at := range []int{0, 1, 2} {
 		for _, part := range []int{-1, 0, 1, 2, 3, 6, 9, 500, 1007} {
 			for _, size := range []int{1000, 998, 10} {
