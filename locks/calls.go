@@ -5,6 +5,7 @@ import (
 
 	"ballast/api"
 	"ballast/conf"
+	"ballast/core"
 	"ballast/mover"
 )
 
@@ -48,28 +49,15 @@ func Throw(c api.Config, k api.Core, now, section, pos int) (api.Core, api.Errno
 func answer(c api.Config, k api.Core, do func(*state) api.Errno, times ...int) (api.Core, api.Errno) {
 	switch {
 	case !Fits(c, k):
-		return copied(k), api.ErrState
+		return core.Copy(k), api.ErrState
 	case !within(0, api.MaxTime, times...):
-		return copied(k), api.ErrField
+		return core.Copy(k), api.ErrField
 	}
-	s := &state{copied(k), c}
+	s := &state{core.Copy(k), c}
 	if e := do(s); e != api.OK {
-		return copied(k), e
+		return core.Copy(k), e
 	}
 	return s.Core, api.OK
-}
-
-// copied: the state in memory of its own.
-func copied(k api.Core) api.Core {
-	return api.Core{
-		Own:       slices.Clone(k.Own),
-		Routes:    slices.Clone(k.Routes),
-		Points:    slices.Clone(k.Points),
-		Crossings: slices.Clone(k.Crossings),
-		Lines:     slices.Clone(k.Lines),
-		Resets:    slices.Clone(k.Resets),
-		Dirty:     k.Dirty,
-	}
 }
 
 func (s *state) request(now, r int) api.Errno {
