@@ -5,6 +5,7 @@ import (
 	"slices"
 
 	"ballast/api"
+	"ballast/conf"
 )
 
 // Copy: the state in memory of its own.
@@ -26,4 +27,17 @@ func Sees(c api.Config, v api.View) bool {
 		len(v.Pos) == len(c.Sections) &&
 		len(v.Shut) == len(c.Crossings) &&
 		len(v.Lamp) == len(c.Signals)
+}
+
+// Clear: does the look tell that its section is clear?
+func Clear(look api.Look) bool { return look.Valid && look.Value == 0 }
+
+// Approached: is the section the approach of a locked route? A train may stand there that was told it may go.
+func Approached(c api.Config, k api.Core, section int) bool {
+	for r, route := range k.Routes {
+		if route.State != api.Idle && conf.Approach(c, r) == section {
+			return true
+		}
+	}
+	return false
 }

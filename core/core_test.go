@@ -2,6 +2,7 @@ package core_test
 
 import (
 	"fmt"
+	"math"
 	"slices"
 	"testing"
 
@@ -54,5 +55,38 @@ func TestSees(t *testing.T) {
 	}
 	if !core.Sees(api.Config{}, api.View{}) || core.Sees(c, api.View{}) {
 		t.Error("nothing is seen")
+	}
+}
+
+// A section is clear if its look counts, and tells 0; whatever its stamp.
+func TestClear(t *testing.T) {
+	for _, value := range []int{0, 1, 2, -1, 1 << 32, math.MinInt, math.MaxInt} {
+		for _, stamp := range []int{0, 5, -1, math.MinInt, math.MaxInt} {
+			for _, valid := range []bool{false, true} {
+				look := api.Look{Value: value, Stamp: stamp, Valid: valid}
+				if got := core.Clear(look); got != (valid && value == 0) {
+					t.Errorf("%v: %v", look, got)
+				}
+			}
+		}
+	}
+}
+
+// Any one of the routes, in any State but Idle, makes its own approach one.
+func TestApproached(t *testing.T) {
+	c := api.Config{Sections: make([]api.Section, 4), Signals: []api.Signal{{Section: 3}, {Section: 1}}, Routes: []api.Route{{Entry: 1}, {Entry: 0}, {Entry: 1}, {Entry: 2}}}
+	for r, approach := range []int{1, 3, 1, -1} {
+		for state := api.Idle; state <= api.Held; state++ {
+			k := api.Core{Routes: make([]api.RouteState, 4)}
+			k.Routes[r].State = state
+			for section := range c.Sections {
+				if got := core.Approached(c, k, section); got != (state != api.Idle && section == approach) {
+					t.Errorf("route %d in state %d, section %d: %v", r, state, section, got)
+				}
+			}
+		}
+	}
+	if core.Approached(c, api.Core{}, 1) {
+		t.Error("nothing is locked")
 	}
 }

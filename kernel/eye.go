@@ -2,6 +2,7 @@ package kernel
 
 import (
 	"ballast/api"
+	"ballast/core"
 	"ballast/mover"
 )
 
@@ -14,7 +15,7 @@ type eye struct {
 // clear: is each of the sections clear?
 func (e eye) clear(sections ...int) bool {
 	for _, section := range sections {
-		if look := e.Occ[section]; !look.Valid || look.Value != 0 {
+		if !core.Clear(e.Occ[section]) {
 			return false
 		}
 	}

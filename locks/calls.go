@@ -134,15 +134,8 @@ func (s *state) throw(now, section, pos int) api.Errno {
 	return api.OK
 }
 
-// ahead: is the section the approach of a locked route? A train may stand there that was told it may go.
-func (s *state) ahead(section int) bool {
-	for r, route := range s.Routes {
-		if route.State != api.Idle && conf.Approach(s.plan, r) == section {
-			return true
-		}
-	}
-	return false
-}
+// ahead: does the section lie ahead of a locked route's signal?
+func (s *state) ahead(section int) bool { return core.Approached(s.plan, s.Core, section) }
 
 // canTake: may the route own each of the sections?
 func (s *state) canTake(r int, sections ...int) bool {
